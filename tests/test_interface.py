@@ -1,0 +1,45 @@
+import importlib
+import inspect
+import unittest
+
+# The names and the arguments that the document lists, file by file.
+LISTED = {
+    "fractions": "is_fraction(value) is_share(value) fraction(above,below) plus(one,other) less(one,other) "
+    "times(one,other) over(one,other) compared(one,other) sum_of(fractions)",
+    "tables": "is_table(value) still(casks) behind(one,other) power(table,rounds) keeps_all(table) rank(numbers) "
+    "solutions(numbers,right) solutions_hold(numbers,right,value)",
+    "fills": "is_fill(value) is_cellar(value) size(fill) amount(fill,kind) share_of(fill,kind) together(fills) "
+    "part(fill,share) rest(fill,other) all_of(cellar)",
+    "deeds": "is_deed(value) done(cellar,deed) run(cellar,deeds) drawn(cellar,deeds) lost(cellar,deeds)",
+    "recipes": "is_recipe(value,casks) table_of(recipe,casks) worked(table,cellar) same_way(recipe,cellar)",
+    "alike": "alike(one,other,casks) parting(one,other,casks) passing(one,other,casks) needless(recipe,casks) "
+    "ahead(table,cellar) ahead_holds(table,cellar,value)",
+    "making": "recipe_with_spares(table) makes(table,value)",
+    "rounds": "after(table,rounds,cellar) rings(table) period(table) limits(table) near(table,nearness)",
+    "levels": "levelled(casks,pairs) is_level(casks,pairs) levellings(casks) level_pairs(casks) "
+    "level_holds(casks,value) least_gap(amounts,many)",
+    "evenness": "is_more_even(one,other) first_gap(one,other) exchanges(one,other) fewest(one,other) "
+    "fewest_exchanges(one,other) exchanges_hold(one,other,most,value) meet(one,other) join(one,other)",
+    "bentlines": "curve(sizes,shares) can_come(sizes,one,other) first_over(sizes,one,other) table_for(sizes,one,other) "
+    "table_holds(sizes,one,other,value)",
+    "mixtables": "table_to(one,other) table_to_holds(one,other,value) prices_against(one,other) "
+    "prices_hold(one,other,value)",
+}
+
+
+class Interface(unittest.TestCase):
+    def test_names_and_arguments(self):
+        for file, listed in LISTED.items():
+            module = importlib.import_module("caskyears." + file)
+            for entry in listed.split():
+                with self.subTest(file=file, entry=entry):
+                    name, arguments = entry.rstrip(")").split("(")
+                    function = getattr(module, name)
+                    self.assertEqual(function.__module__, "caskyears." + file)
+                    self.assertEqual(list(inspect.signature(function).parameters), arguments.split(","))
+                    kinds = {parameter.kind for parameter in inspect.signature(function).parameters.values()}
+                    self.assertEqual(kinds, {inspect.Parameter.POSITIONAL_OR_KEYWORD})
+
+
+if __name__ == "__main__":
+    unittest.main()
