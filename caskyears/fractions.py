@@ -113,6 +113,21 @@ def reduced(above, below):
     return above // divisor, below // divisor
 
 
+def reduced_by(number, below, base):
+    """Return the fraction of an integer and a long number below of which each prime divides the base.
+
+    What both have in common is mostly short, and found sooner in steps that double than from the whole numbers.
+    """
+    if number == 0:
+        return ZERO
+    shared, left, part = 1, number, gcd(number, base)
+    while part > 1:
+        shared, left = shared * part, left // part
+        part = gcd(left, part * part)
+    divisor = gcd(shared, below)
+    return number // divisor, below // divisor
+
+
 def added(one, other):
     """Return the sum of two fractions."""
     return reduced(one[0] * other[1] + other[0] * one[1], one[1] * other[1])

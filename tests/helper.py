@@ -8,6 +8,7 @@ from caskyears.errors import CaskError
 
 LONG = 10**39 + 7
 LONGER = 10**40 - 1
+PRIME = 2**61 - 1
 
 
 def pair(number, below=1):
@@ -106,6 +107,102 @@ def unit(casks):
 def amounts_of(cellar, kind):
     """Return the list of the amounts of a kind in each cask."""
     return [sum((number(much) for name, much in inside if name == kind), Fraction(0)) for inside in cellar]
+
+
+def some_row(draw, stages):
+    """Return a row of small shares, some of them 1."""
+    shares = []
+    for _ in range(stages):
+        below = draw.randrange(1, 6)
+        shares.append(Fraction(draw.randrange(1, below + 1), below))
+    return pairs(*shares)
+
+
+def some_yearly(draw, casks, holes=0.4, loss=True):
+    """Return a yearly cellar of small numbers, some of them 0, some shares 1."""
+    into = [Fraction(draw.randrange(4), draw.randrange(1, 4)) if draw.random() < 0.6 else 0 for _ in range(casks)]
+    tap = [draw.choice([Fraction(0), Fraction(1, 2), Fraction(1, 3), Fraction(1)]) for _ in range(casks)]
+    if draw.random() < 0.4:
+        tap = [0] * casks
+        tap[draw.randrange(casks)] = Fraction(1, 2)
+    return some_table(draw, casks, holes=holes, loss=loss), pairs(*into), pairs(*tap)
+
+
+def work_row(row, last):
+    """Return a list, year by year, of the tap and the stages, each a dict of amounts by years of wine."""
+    shares = [number(share) for share in row]
+    inside = [{} for _ in shares]
+    inside[0][0] = Fraction(1)
+    found = [({}, [dict(stage) for stage in inside])]
+    for year in range(1, last + 1):
+        glass = {}
+        for stage in range(len(shares) - 1, -1, -1):
+            goal = glass if stage == len(shares) - 1 else inside[stage + 1]
+            for wine in list(inside[stage]):
+                goes = inside[stage][wine] * shares[stage]
+                inside[stage][wine] -= goes
+                goal[wine] = goal.get(wine, Fraction(0)) + goes
+        inside[0][year] = inside[0].get(year, Fraction(0)) + 1
+        found.append((glass, [dict(stage) for stage in inside]))
+    return found
+
+
+def work_yearly(yearly, last):
+    """Return a list, year by year, of the glass and the casks, each a dict of amounts by years of wine."""
+    rows, into, tap = [[number(entry) for entry in row] for row in yearly[0]], yearly[1], yearly[2]
+    inside = [{0: number(much)} for much in into]
+    found = [({}, [dict(cask) for cask in inside])]
+    for year in range(1, last + 1):
+        glass = {}
+        for cask, share in zip(inside, tap):
+            for wine in cask:
+                goes = cask[wine] * number(share)
+                cask[wine] -= goes
+                glass[wine] = glass.get(wine, Fraction(0)) + goes
+        wines = list(inside[0])
+        inside = [
+            {wine: sum(row[at] * inside[at][wine] for at in range(len(inside))) for wine in wines} for row in rows
+        ]
+        for cask, much in zip(inside, into):
+            cask[year] = number(much)
+        found.append((glass, [dict(cask) for cask in inside]))
+    return found
+
+
+def told(amounts):
+    """Return the list of tuples (year, amount) of a dict, amounts above 0 alone."""
+    return [(wine, pair(amounts[wine])) for wine in sorted(amounts) if amounts[wine]]
+
+
+def modulo(of):
+    """Return a fraction of the package by what it leaves behind a division by a prime, so that long ones compare."""
+    return of[0] * pow(of[1], -1, PRIME) % PRIME
+
+
+def work_by_prime(step, start, years):
+    """Return the lists of what is in the casks, year by year, as what they leave behind a division by a prime."""
+    rows = [[modulo(entry) for entry in row] for row in step]
+    found = [[modulo(entry) for entry in start]]
+    for _ in range(years):
+        found.append([sum(x * y for x, y in zip(row, found[-1])) % PRIME for row in rows])
+    return found
+
+
+def long_row(draw, stages):
+    """Return a row of shares with many digits."""
+    return pairs(*[Fraction(draw.randrange(LONG // 9, LONG), draw.randrange(LONG, LONGER)) for _ in range(stages)])
+
+
+def long_yearly(draw, casks):
+    """Return a yearly cellar of numbers with many digits."""
+    columns = []
+    for _ in range(casks):
+        parts = [draw.randrange(LONG) for _ in range(casks)]
+        whole = sum(parts) + draw.randrange(LONG)
+        columns.append([Fraction(part, whole) for part in parts])
+    rows = table(*[[columns[source][goal] for source in range(casks)] for goal in range(casks)])
+    into = pairs(*[Fraction(draw.randrange(LONG), LONGER) for _ in range(casks)])
+    return rows, into, pairs(*[Fraction(draw.randrange(LONG // 9), LONG) for _ in range(casks)])
 
 
 def lists_in(value):

@@ -24,6 +24,19 @@ LISTED = {
     "table_holds(sizes,one,other,value)",
     "mixtables": "table_to(one,other) table_to_holds(one,other,value) prices_against(one,other) "
     "prices_hold(one,other,value)",
+    "rows": "is_row(value) tap_amount(row,age) tap(row,year) stages(row,year) tap_total(row,year) "
+    "stage_totals(row,year) limits(row) all_by(row,nearness)",
+    "rowages": "mean_age(row) spread(row) older(row,age) middle_age(row) older_in(row,age,year) "
+    "label_from(row,age,share)",
+    "rowalike": "alike_at_tap(one,other) first_unlike_age(one,other) told_row(amounts) first_unlike_stage(one,other) "
+    "freest_order(row)",
+    "yearly": "is_yearly(value) of_row(row) glass_amount(yearly,age) glass(yearly,year) casks_in(yearly,year) "
+    "totals(yearly,year) steady(yearly) grows(yearly)",
+    "taps": "alike_glasses(one,other) first_unlike(one,other) least_size(yearly) least_numbers(yearly) "
+    "numbers_hold(yearly,value) recurrence(amounts) next_amounts(amounts,many) told_casks(amounts)",
+    "cleaning": "left(yearly,old,year) left_for_ever(yearly,old) clean_from(yearly,old,amount) slowest(yearly,year)",
+    "losses": "waited(cellar,factors) passes(table,factors) first_passed(table,factors) more_left(table,factors) "
+    "ways_round(table,factors,rounds)",
 }
 
 
