@@ -13,7 +13,7 @@ def point_or_refusal(numbers, right):
     """
     width = len(numbers[0])
     rows, factors = started(numbers, right)
-    rows, basis, below = improved(rows, width)
+    rows, basis, below, _ = improved(rows, first_basis(width, len(numbers)), 1, width)
     costs = rows[-1]
     if costs[-1] < 0:
         # What the columns of the helpers cost at the end tells the price of each row.
@@ -33,34 +33,50 @@ def started(numbers, right):
     rows, factors = [], []
     for at, numbers_there in enumerate(numbers):
         whole, factor = common(list(numbers_there) + [right[at]])
-        helpers = [1 if at == other else 0 for other in range(len(numbers))]
-        rows.append(whole[:-1] + helpers + whole[-1:])
+        rows.append(whole[:-1] + helper(at, len(numbers)) + whole[-1:])
         factors.append(factor)
-    width = len(numbers[0])
-    costs = [-sum([row[column] for row in rows]) for column in range(len(rows[0]))]
-    rows.append(costs[:width] + [0] * len(numbers) + costs[-1:])
+    rows.append(helper_costs(rows, len(numbers[0]), len(numbers)))
     return rows, factors
 
 
-def improved(rows, width):
-    """Return the rows at the least sum of the helpers, the column of each row, and the number below.
+def first_basis(width, many):
+    """Return the columns that so many rows begin with: those of their helpers."""
+    return list(range(width, width + many))
 
-    The first column that helps comes in, and of the rows that bound it most that of the least column leaves: so no
-    basis comes twice. A helper that has left does not come in again.
+
+def helper(at, many):
+    """Return the list of so many numbers with 1 at a place and 0 elsewhere."""
+    return [1 if place == at else 0 for place in range(many)]
+
+
+def helper_costs(rows, width, many):
+    """Return the row that tells what each column costs if each of so many helpers, in the rows by now, costs 1."""
+    costs = [-sum([row[column] for row in rows]) for column in range(width + many + 1)]
+    return costs[:width] + [0] * many + costs[-1:]
+
+
+def improved(rows, basis, below, width):
+    """Return the rows at the least costs, which stand in the last one, the column of each row, and the number below.
+
+    Behind these stands None, or the column that may come in for ever, so that there are no least costs. The first
+    column that helps comes in, and of the rows that bound it most that of the least column leaves: so no basis comes
+    twice. A helper that has left does not come in again.
     """
-    basis, below = list(range(width, width + len(rows) - 1)), 1
+    basis = list(basis)
     coming = [column for column in range(width) if rows[-1][column] < 0]
     while coming:
         at = leaving(rows, basis, coming[0])
+        if at is None:
+            return rows, basis, below, coming[0]
         lead = rows[at][coming[0]]
         rows = pivoted(rows, at, coming[0], below)
         below, basis[at] = lead, coming[0]
         coming = [column for column in range(width) if rows[-1][column] < 0]
-    return rows, basis, below
+    return rows, basis, below, None
 
 
 def leaving(rows, basis, column):
-    """Return the index of the row that bounds a column most."""
+    """Return the index of the row that bounds a column most, None if none does."""
     best = None
     for at in range(len(basis)):
         lead, bound = rows[at][column], rows[at][-1]

@@ -205,6 +205,39 @@ def long_yearly(draw, casks):
     return rows, into, pairs(*[Fraction(draw.randrange(LONG // 9), LONG) for _ in range(casks)])
 
 
+def end_of_aim(number, rows, aim):
+    """Return how great the aim may be in rows of numbers at most a bound: "none", "endless" or a number.
+
+    One unknown after the other is taken out by adding up rows, until the aim alone is left.
+    """
+    left = [(list(factors) + [0], bound) for factors, bound in rows]
+    left.append(([-factor for factor in aim] + [1], Fraction(0)))
+    for at in range(number):
+        lows = [row for row in left if row[0][at] < 0]
+        highs = [row for row in left if row[0][at] > 0]
+        found = [row for row in left if row[0][at] == 0]
+        for low, low_bound in lows:
+            for high, high_bound in highs:
+                one, other = high[at], -low[at]
+                added = [one * x + other * y for x, y in zip(low, high)]
+                found.append((added, one * low_bound + other * high_bound))
+        left = without_needless(found)
+    if any(not any(factors) and bound < 0 for factors, bound in left):
+        return "none"
+    ends = [bound / Fraction(factors[-1]) for factors, bound in left if factors[-1] > 0]
+    return min(ends) if ends else "endless"
+
+
+def without_needless(rows):
+    """Return rows of numbers, of those with the same factors but for how often they are taken the least bound alone."""
+    least = {}
+    for factors, bound in rows:
+        scale = Fraction(1) / next((abs(factor) for factor in factors if factor), 1)
+        key = tuple(scale * factor for factor in factors)
+        least[key] = min(least.get(key, scale * bound), scale * bound)
+    return [(list(key), bound) for key, bound in least.items()]
+
+
 def lists_in(value):
     """Return a list of all lists in an object, through lists and tuples."""
     found = [value] if isinstance(value, list) else []

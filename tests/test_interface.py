@@ -37,6 +37,24 @@ LISTED = {
     "cleaning": "left(yearly,old,year) left_for_ever(yearly,old) clean_from(yearly,old,amount) slowest(yearly,year)",
     "losses": "waited(cellar,factors) passes(table,factors) first_passed(table,factors) more_left(table,factors) "
     "ways_round(table,factors,rounds)",
+    "texts": "show_fraction(fraction) show_fill(fill) show_cellar(cellar) show_deeds(deeds) show_table(table) "
+    "show_row(row) show_yearly(yearly)",
+    "reading": "read_fraction(text) read_fill(text) read_cellar(text) read_deeds(text) read_table(text) "
+    "read_row(text) read_yearly(text)",
+    "inequalities": "is_system(value) holds_at(system,point) point_of(system) refusal_of(system) "
+    "refusal_holds(system,value) greatest(system,aim) best_point(system,aim) prices(system,aim) "
+    "prices_hold(system,aim,bound,value) way_on(system,aim)",
+    "measures": "measured(sizes,stand,deeds) stands(sizes,stand,butt) fewest(sizes,stand,goal,butt) "
+    "shut(sizes,stand,goal,butt) shut_holds(sizes,stand,goal,butt,value) measurable(sizes) fewest_for_all(sizes)",
+    "pours": "poured(cellar,rooms,dregs,pours) gone(cellar,rooms,dregs,pours) cut_at(cellar,rooms,dregs,pours) "
+    "as_deeds(cellar,rooms,dregs,pours) may_be_cut(rooms,ranges,pours) cut_sizes(rooms,ranges,pours) "
+    "size_between(rooms,dregs,ranges,pours,cask) sizes_for(rooms,dregs,ranges,pours,cask,greatest)",
+    "seasons": "behind(cellar,story,weather) amount_between(cellar,story,cask,kind) size_within(cellar,story,cask) "
+    "share_between(cellar,story,cask,kind) weather_for(cellar,story,cask,kind,greatest) keeps(cellar,story,cask,rule)",
+    "labels": "fits(fill,rule) agrees(knowledge,cellar) rows_of(knowledge) some_cellar(knowledge) "
+    "surely(knowledge,recipe,cask,rule) counter(knowledge,recipe,cask,rule) reason(knowledge,recipe,cask,rule) "
+    "reason_holds(knowledge,recipe,cask,rule,value) sure_least(knowledge,recipe,cask,kinds) "
+    "sure_most(knowledge,recipe,cask,kinds) needless(knowledge)",
 }
 
 

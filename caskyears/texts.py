@@ -1,0 +1,82 @@
+"""Texts of fractions, fills, cellars, deeds, tables, rows and yearly cellars."""
+
+from caskyears.anew import built_anew
+from caskyears.deeds import is_deed
+from caskyears.errors import InvalidDeed
+from caskyears.fills import check_cellar, check_fill
+from caskyears.fractions import check_fraction
+from caskyears.rows import check_row
+from caskyears.tables import check_table
+from caskyears.yearly import check_yearly
+
+
+def show_fraction(fraction):
+    """Return the text of a fraction."""
+    check_fraction(fraction)
+    return fraction_text(fraction)
+
+
+def show_fill(fill):
+    """Return the text of a fill."""
+    check_fill(fill)
+    return fill_text(fill)
+
+
+def show_cellar(cellar):
+    """Return the text of a cellar."""
+    check_cellar(cellar)
+    return " | ".join([fill_text(fill) for fill in cellar])
+
+
+def show_deeds(deeds):
+    """Return the text of a list or tuple of deeds."""
+    for deed in deeds:
+        if not is_deed(deed):
+            raise InvalidDeed(built_anew(deed))
+    return "; ".join([deed_text(deed) for deed in deeds]) if deeds else "-"
+
+
+def show_table(table):
+    """Return the text of a table."""
+    check_table(table)
+    return table_text(table)
+
+
+def show_row(row):
+    """Return the text of a row."""
+    check_row(row)
+    return numbers_text(row)
+
+
+def show_yearly(yearly):
+    """Return the text of a yearly cellar."""
+    check_yearly(yearly)
+    table, into, tap = yearly
+    return " / ".join([table_text(table), numbers_text(into), numbers_text(tap)])
+
+
+def fraction_text(fraction):
+    """Return the text of what is known to be a fraction."""
+    above, below = fraction
+    return str(above) if below == 1 else f"{above}/{below}"
+
+
+def numbers_text(fractions):
+    """Return the texts of fractions with blanks between."""
+    return " ".join([fraction_text(fraction) for fraction in fractions])
+
+
+def fill_text(fill):
+    """Return the text of what is known to be a fill."""
+    return ", ".join([f"{kind} {fraction_text(much)}" for kind, much in fill]) if fill else "-"
+
+
+def deed_text(deed):
+    """Return the text of what is known to be a deed."""
+    last = fill_text(deed[2]) if deed[0] == "add" else fraction_text(deed[-1])
+    return " ".join([deed[0]] + [str(cask) for cask in deed[1:-1]] + [last])
+
+
+def table_text(table):
+    """Return the text of what is known to be a table."""
+    return "; ".join([numbers_text(row) for row in table])
