@@ -13,7 +13,8 @@ from tests.test_recipes import NO_RECIPES
 HALF = (1, 2)
 OLD = (("old",), "least", HALF)
 NO_KINDS_OF_RULES = NONE_OF_ANY[:-1] + [
-    (), ["old"], ("young", "old"), ("old", "old"), ("old", None), ("Old",), ("",), ("abcdefghi",), (b"old",), (("old",),),
+    (), ["old"], ("young", "old"), ("old", "old"), ("old", None), ("Old",), ("",), ("abcdefghi",), (b"old",),
+    (("old",),),
     "old", {"old": 1}, ("old", ["young"]), (ODD,), (ECHO,),
 ]
 # Two of any are kinds of rules.
@@ -233,7 +234,8 @@ class Surely(Case, unittest.TestCase):
             return "endless" if end == "endless" else "counter"
         self.assertIs(type(paper), tuple)
         self.assertTrue(all(entry[0] >= 0 for entry in paper))
-        made = [sum((number(many) * row[0][at] for many, row in zip(paper, rows)), Fraction(0)) for at in range(len(aim))]
+        made = [sum((number(many) * row[0][at] for many, row in zip(paper, rows)), Fraction(0))
+            for at in range(len(aim))]
         bound = sum((number(many) * row[1] for many, row in zip(paper, rows)), Fraction(0))
         self.assertTrue((made == aim and bound <= 0) or (not any(made) and bound < 0))
         self.assertIs(reason_holds(knowledge, recipe, cask, rule, paper), True)
@@ -257,7 +259,8 @@ class Surely(Case, unittest.TestCase):
             counted = (draw.choice(kinds), "z")
             for function, sense, sign in ((sure_least, "least", 1), (sure_most, "most", -1)):
                 share = number(function(knowledge, recipe, cask, counted))
-                self.assertNotIn(self.check(knowledge, recipe, cask, (counted, sense, pair(share))), ("counter", "endless"))
+                word = self.check(knowledge, recipe, cask, (counted, sense, pair(share)))
+                self.assertNotIn(word, ("counter", "endless"))
                 beyond = share + sign * Fraction(1, 10**6)
                 if 0 <= beyond <= 1:
                     self.assertIs(surely(knowledge, recipe, cask, (counted, sense, pair(beyond))), False)

@@ -31,7 +31,8 @@ NO_POURS = NONE_OF_ANY + [
     (), ["tap", 0, HALF], ("pour", 0, 1), ("pour", 0, 0, HALF), ("pour", 0, 2, HALF), ("pour", -1, 0, HALF),
     ("pour", True, 0, HALF), ("pour", 0, 1, (-1, 2)), ("pour", 0, 1, (2, 4)), ("pour", 0, 1, None),
     ("pour", 0, 1, HALF, HALF), ("pour", 0, HALF), ("till", 0, 0), ("till", 0, 2), ("till", 0), ("till", 0, 1, HALF),
-    ("till", 0, None), ("rack", 0, 0), ("rack", 2, 0), ("rack", 0, True), ("rack", 0, 1, HALF), ("tap", 0), ("tap", 2, HALF),
+    ("till", 0, None), ("rack", 0, 0), ("rack", 2, 0), ("rack", 0, True), ("rack", 0, 1, HALF), ("tap", 0), ("tap",
+    2, HALF),
     ("tap", 0, (-1, 2)), ("tap", 0, 1, HALF), ("tap", 0, 1), ("top", 0, "red"), ("top", 2, "red", HALF),
     ("top", 0, "Red", HALF), ("top", 0, "", HALF), ("top", 0, None, HALF), ("top", 0, "red", (-1, 2)),
     ("top", 0, "red", None), ("top", 0, "red", HALF, 1), ("top", 0, HALF), ("Pour", 0, 1, HALF), (ECHO, 0, 1, HALF),
@@ -137,9 +138,10 @@ class Pours(Case, unittest.TestCase):
         near = Fraction(LONG, LONGER)
         cellar = tuple(fill(a=near, z=1) for _ in range(8))
         pours = tuple(("pour", at % 8, (at + 3) % 8, pair(near / (at + 2))) for at in range(24))
-        inside, moved = work(cellar, pairs(*[3] * 8), pairs(*[0] * 8), pours)
-        self.assertEqual(gone(cellar, pairs(*[3] * 8), pairs(*[0] * 8), pours), pairs(*moved))
-        self.assertEqual(poured(cellar, pairs(*[3] * 8), pairs(*[0] * 8), pours), tuple(fill(**cask) for cask in inside))
+        rooms, dregs = pairs(*[3] * 8), pairs(*[0] * 8)
+        inside, moved = work(cellar, rooms, dregs, pours)
+        self.assertEqual(gone(cellar, rooms, dregs, pours), pairs(*moved))
+        self.assertEqual(poured(cellar, rooms, dregs, pours), tuple(fill(**cask) for cask in inside))
 
 
 def one_kind(sizes):
@@ -194,7 +196,8 @@ class Ranges(Case, unittest.TestCase):
         ranges = (pairs(3, 6), pairs(0, 1))
         for much, wanted in ((3, None), (3 + Fraction(1, LONGER), 0), (0, None)):
             self.assertEqual(may_be_cut(ROOMS, ranges, (("pour", 0, 1, pair(much)),)), wanted)
-        self.assertEqual(may_be_cut(ROOMS, (pairs(3, 6), pairs(0, Fraction(LONG + 1, LONG))), (("pour", 0, 1, (3, 1)),)), 0)
+        wider = (pairs(3, 6), pairs(0, Fraction(LONG + 1, LONG)))
+        self.assertEqual(may_be_cut(ROOMS, wider, (("pour", 0, 1, (3, 1)),)), 0)
         ahead = (("tap", 0, (1, 1)), ("top", 1, "z", (3, 1)))
         self.assertEqual(may_be_cut(ROOMS, ranges, ahead), None)
         self.assertEqual(may_be_cut(ROOMS, ranges, ahead + (("tap", 0, (2, 1)), ("top", 1, "z", (0, 1)))), None)
@@ -222,7 +225,8 @@ class Ranges(Case, unittest.TestCase):
                     self.assertEqual(sum(inside[cask].values()), wanted)
         ranges = (pairs(0, 8), pairs(4, 4))
         self.assertEqual(size_between(cask=1, pours=(), ranges=ranges, dregs=DREGS, rooms=ROOMS), pairs(4, 4))
-        self.assertEqual(sizes_for(greatest=True, cask=0, pours=(), ranges=ranges, dregs=DREGS, rooms=ROOMS), pairs(8, 4))
+        self.assertEqual(sizes_for(greatest=True, cask=0, pours=(), ranges=ranges, dregs=DREGS, rooms=ROOMS),
+            pairs(8, 4))
 
 
 class Refusals(Case, unittest.TestCase):

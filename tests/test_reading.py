@@ -164,8 +164,8 @@ class Edges(Case, unittest.TestCase):
         for text in ["01", "-0", "+1", "1/1", "2/4", "1/0", "1/-2", "--1", "1 / 2", "1/2/3", "0/1", "1.5", "1_0", "",
                 " 1", "1 ", "1\n", "/2", "1/", "0x1", "\u0661", "\u00b2", "1/\u0662", "one", "-", "1,2"]:
             self.refused(Unreadable, text, read_fraction, text)
-        for text in ["", "red", "red 0", "red -1", "red 1,white 1", "red 1, red 2", "white 1, red 1", "Red 1", "- ", "--",
-                "abcdefghi 1", "red  1", "red 1, ", "red 1;", "-, -", "r\u00e9d 1", "red 1/2 ", " -", "red 1, -"]:
+        for text in ["", "red", "red 0", "red -1", "red 1,white 1", "red 1, red 2", "white 1, red 1", "Red 1", "- ",
+                "--", "abcdefghi 1", "red  1", "red 1, ", "red 1;", "-, -", "r\u00e9d 1", "red 1/2 ", " -", "red 1, -"]:
             self.refused(Unreadable, text, read_fill, text)
         for text in ["", "-|-", "- |-", "- | ", " | ".join("-" * 9), "red 1 | white", "- ; -"]:
             self.refused(Unreadable, text, read_cellar, text)

@@ -27,7 +27,8 @@ NO_ENTRIES = [value for value in NO_DEEDS] + [
 KEPT = (HALF, (0, 1))
 NO_WEATHERS = NONE_OF_ANY + [
     (), KEPT, (KEPT, KEPT), [KEPT], (list(KEPT),), (KEPT + ((0, 1),),), (KEPT[:1],), (((1, 4), (0, 1)),),
-    (((2, 1), (0, 1)),), ((HALF, (-1, 2)),), ((HALF, (2, 4)),), ((HALF, None),), ((HALF, [0, 1]),), (None,), (KEPT, None),
+    (((2, 1), (0, 1)),), ((HALF, (-1, 2)),), ((HALF, (2, 4)),), ((HALF, None),), ((HALF, [0, 1]),), (None,), (KEPT,
+    None),
     ((HALF, (True, 1)),), {0: KEPT}, ((pair(Fraction(1, 2) - Fraction(1, LONGER)), (0, 1)),),
 ]
 
@@ -116,9 +117,10 @@ class Weathers(Case, unittest.TestCase):
     def check_rules(self, cellar, story, cask, inside, kind):
         """Check rules of one kind and of two by a grid of weathers."""
         for kinds in ((kind,), tuple(sorted({kind, "b"}))):
-            shares = [sum(end.get(name, 0) for name in kinds) / sum(end.values()) for end in inside if any(end.values())]
-            least, most = min(shares), max(shares)
-            for share in {least, most, Fraction(1, 2), min(1, least + Fraction(1, 999)), max(0, most - Fraction(1, 999))}:
+            full = [end for end in inside if any(end.values())]
+            shares = [sum(end.get(name, 0) for name in kinds) / sum(end.values()) for end in full]
+            least, most, bit = min(shares), max(shares), Fraction(1, 999)
+            for share in {least, most, Fraction(1, 2), min(1, least + bit), max(0, most - bit)}:
                 self.assertIs(keeps(cellar, story, cask, (kinds, "least", pair(share))), least >= share)
                 self.assertIs(keeps(cellar, story, cask, (kinds, "most", pair(share))), most <= share)
 
@@ -150,8 +152,8 @@ class Weathers(Case, unittest.TestCase):
         draw = drawing(203)
         far = 10**30
         for casks, seasons in ((2, 4), (3, 3), (5, 2), (8, 1)):
-            cellar = tuple(fill(**{kind: Fraction(draw.randrange(1, far), draw.randrange(1, far)) for kind in "abcdefghijkl"})
-                for _ in range(casks))
+            cellar = tuple(fill(**{kind: Fraction(draw.randrange(1, far), draw.randrange(1, far))
+                for kind in "abcdefghijkl"}) for _ in range(casks))
             story = []
             for at in range(seasons):
                 lows = [Fraction(draw.randrange(far), 2 * far) for _ in range(casks)]
