@@ -32,7 +32,7 @@ def clean_from(yearly, old, amount):
     # What goes out at last is gone in as many years as there are casks, or it never is: then it goes round.
     if sign < 0 or (sign == 0 and all_left(step, old, len(old)) != amount):
         return None
-    return first_at_most(step, old, amount)
+    return first_at_most(step, old, amount, 0)
 
 
 def slowest(yearly, year):

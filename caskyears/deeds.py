@@ -1,7 +1,7 @@
 """Deeds: what is moved, swapped, drawn, kept and added in a cellar."""
 
 from caskyears.anew import built_anew
-from caskyears.errors import InvalidDeed
+from caskyears.errors import BadCask, InvalidDeed
 from caskyears.fills import check_cellar, is_fill, joined, scaled
 from caskyears.fractions import ONE, is_integer, is_share, lessened
 
@@ -22,6 +22,17 @@ def is_deed(value):
 def is_cask(value):
     """Return whether any object is a number that a cask may have."""
     return is_integer(value) and value >= 0
+
+
+def is_cask_of(value, casks):
+    """Return whether any object is the number of one of so many casks."""
+    return is_cask(value) and value < casks
+
+
+def check_cask(value, casks):
+    """Raise an error for what is not the number of one of so many casks."""
+    if not is_cask_of(value, casks):
+        raise BadCask(built_anew(value))
 
 
 def has_casks(deed, casks):

@@ -3,7 +3,7 @@
 Products of many tables are worked by grids, since each of their steps would reduce every fraction anew otherwise.
 """
 
-from caskyears.fractions import common, reduced
+from caskyears.fractions import common, reduced, reduced_by
 
 
 def grid_of(rows):
@@ -41,3 +41,9 @@ def power_of(grid, rounds):
         if left > 0:
             square = product_of(square, square)
     return result
+
+
+def powered(grid, rounds):
+    """Return the tuple of tuples of fractions that so many times a grid stand for."""
+    rows, below = power_of(grid, rounds)
+    return tuple([tuple([reduced_by(number, below, grid[1]) for number in row]) for row in rows])

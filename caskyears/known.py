@@ -1,6 +1,7 @@
 """Knowledge of a cellar that nobody has seen, as a system whose unknowns are the amounts, cask by cask."""
 
 from caskyears.anew import built_anew
+from caskyears.deeds import is_cask_of
 from caskyears.errors import BadKnowledge
 from caskyears.fills import MOST_CASKS, amount_of, fill_from, is_kind, kinds_of
 from caskyears.fractions import ONE, ZERO, is_from_zero, is_integer, lessened, multiplied, negative
@@ -27,7 +28,7 @@ def is_fact(value, casks, kinds):
         return False
     if value[0] == "sum":
         return len(value) == 4 and is_kind_of(value[1], kinds) and are_bounds(value[2], value[3])
-    if not is_integer(value[1]) or not 0 <= value[1] < casks:
+    if not is_cask_of(value[1], casks):
         return False
     if value[0] == "size":
         return len(value) == 4 and are_bounds(value[2], value[3])

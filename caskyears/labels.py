@@ -1,9 +1,10 @@
 """Rules that labels tell, and whether they surely fit a cask of a cellar that nobody has seen."""
 
 from caskyears.anew import built_anew
-from caskyears.errors import BadCask, InvalidRecipe
+from caskyears.deeds import check_cask
+from caskyears.errors import InvalidRecipe
 from caskyears.fills import check_cellar, check_fill
-from caskyears.fractions import ONE, ZERO, added, is_integer, lessened, multiplied, negative, order, products
+from caskyears.fractions import ONE, ZERO, added, lessened, multiplied, negative, order, products
 from caskyears.inequalities import all_hold, make, nothing, outcome, refuses
 from caskyears.known import amount_factors, cellar_at, check_knowledge, fact_rows, point_at, rule_factors, system_of
 from caskyears.recipes import is_for, is_some_recipe, table_by_marks
@@ -101,8 +102,7 @@ def check_case(knowledge, recipe, cask):
     check_knowledge(knowledge)
     if not is_some_recipe(recipe) or not is_for(recipe, knowledge[0]):
         raise InvalidRecipe(built_anew(recipe))
-    if not is_integer(cask) or not 0 <= cask < knowledge[0]:
-        raise BadCask(built_anew(cask))
+    check_cask(cask, knowledge[0])
 
 
 def rule_outcome(knowledge, recipe, cask, rule):

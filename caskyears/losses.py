@@ -4,7 +4,7 @@ from caskyears.anew import built_anew
 from caskyears.errors import InvalidFill, Unlike
 from caskyears.fills import MOST_CASKS, check_cellar, scaled
 from caskyears.fractions import ZERO, is_share, multiplied, order, products
-from caskyears.grids import grid_of, power_of, rows_of
+from caskyears.grids import grid_of, powered
 from caskyears.tables import check_rounds, check_table, column_sums
 
 
@@ -52,7 +52,7 @@ def ways_round(table, factors, rounds):
     check_factors(factors, len(table))
     check_rounds(rounds)
     once = [[multiplied(entry, factor) for entry, factor in zip(row, factors)] for row in table]
-    return rows_of(power_of(grid_of(once), rounds))
+    return powered(grid_of(once), rounds)
 
 
 def are_factors(value):

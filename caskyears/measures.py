@@ -1,6 +1,7 @@
 """Unmarked vessels: which amounts they measure, and stands that no deed leaves."""
 
 from caskyears.anew import built_anew
+from caskyears.deeds import is_cask_of
 from caskyears.errors import BadPours, BadSizes, BadStand, InvalidNumber
 from caskyears.fractions import is_integer
 
@@ -107,16 +108,11 @@ def check_goal(sizes, stand, goal):
         raise InvalidNumber(goal)
 
 
-def is_vessel(value, vessels):
-    """Return whether any object is the number of one of so many vessels."""
-    return is_integer(value) and 0 <= value < vessels
-
-
 def is_vessel_deed(value, vessels):
     """Return whether any object is a deed for so many vessels."""
     if not isinstance(value, tuple) or not value or not isinstance(value[0], str):
         return False
-    if not all([is_vessel(entry, vessels) for entry in value[1:]]):
+    if not all([is_cask_of(entry, vessels) for entry in value[1:]]):
         return False
     if value[0] == "pour":
         return len(value) == 3 and value[1] != value[2]

@@ -1,10 +1,10 @@
 """Pours that are cut where a cask is empty or full: what they do, and whether any may be cut."""
 
 from caskyears.anew import built_anew
-from caskyears.deeds import stages_of
-from caskyears.errors import BadCask, BadDregs, BadPours, BadRanges, BadRooms, InvalidCellar
+from caskyears.deeds import check_cask, is_cask_of, stages_of
+from caskyears.errors import BadDregs, BadPours, BadRanges, BadRooms, InvalidCellar
 from caskyears.fills import MOST_CASKS, check_cellar, is_kind, size_of
-from caskyears.fractions import ZERO, added, divided, is_above_zero, is_from_zero, is_integer, lessened, lesser, order
+from caskyears.fractions import ZERO, added, divided, is_above_zero, is_from_zero, lessened, lesser, order
 
 WITH_AMOUNT = ("pour", "tap", "top")
 
@@ -114,11 +114,6 @@ def is_pour(value, casks):
     return value[0] in ("till", "rack") and len(value) == 3
 
 
-def is_cask_of(value, casks):
-    """Return whether any object is the number of one of so many casks."""
-    return is_integer(value) and 0 <= value < casks
-
-
 def check_pours(pours, casks):
     """Raise an error for what are no pours of so many casks."""
     if not isinstance(pours, tuple):
@@ -156,8 +151,7 @@ def check_ranged(rooms, dregs, ranges, pours, cask):
     check_dregs(rooms, dregs)
     check_ranges(rooms, ranges)
     check_pours(pours, len(rooms))
-    if not is_cask_of(cask, len(rooms)):
-        raise BadCask(built_anew(cask))
+    check_cask(cask, len(rooms))
 
 
 def sizes_of(cellar):

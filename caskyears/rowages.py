@@ -1,9 +1,7 @@
 """How old the wine is that the tap of a row gives."""
 
-from caskyears.errors import TooMany
 from caskyears.fractions import ONE, ZERO, check_share, divided, lessened, multiplied, order, total
 from caskyears.rows import check_age, check_row, check_year, first_age, left_at, limits
-from caskyears.series import MOST_YEARS
 
 HALF = (1, 2)
 
@@ -29,7 +27,7 @@ def older(row, age):
 def middle_age(row):
     """Return the least age such that at least half of the full tap is at most so old."""
     check_row(row)
-    return first_age(row, HALF)
+    return first_age(row, HALF, 0)
 
 
 def older_in(row, age, year):
@@ -56,10 +54,7 @@ def label_from(row, age, share):
     # All that the tap gives comes near to one part, and reaches it only if all of it is of one age.
     if order(younger, others) >= 0:
         return None
-    reached = first_age(row, lessened(ONE, divided(younger, others)))
-    if age > MOST_YEARS:
-        raise TooMany(MOST_YEARS)
-    return max(reached, age)
+    return first_age(row, lessened(ONE, divided(younger, others)), age)
 
 
 def still_in(row, age):

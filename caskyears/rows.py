@@ -69,7 +69,7 @@ def all_by(row, nearness):
     check_row(row)
     if not is_above_zero(nearness):
         raise InvalidFraction(built_anew(nearness))
-    return first_age(row, nearness)
+    return first_age(row, nearness, 0)
 
 
 def check_row(value):
@@ -123,6 +123,6 @@ def left_at(row, age):
     return all_left(step_of(row), first_full(row), age)
 
 
-def first_age(row, bound):
-    """Return the first age at which at most the bound of a year's wine is still in the stages."""
-    return first_at_most(step_of(row), first_full(row), bound)
+def first_age(row, bound, earliest):
+    """Return the first age, from the earliest on, at which at most the bound of a year's wine is in the stages."""
+    return first_at_most(step_of(row), first_full(row), bound, earliest)

@@ -1,10 +1,10 @@
 """Stories with seasons, of which nobody knows ahead how much stays: what they leave for all weathers."""
 
 from caskyears.anew import built_anew
-from caskyears.deeds import behind_deed, has_casks, is_deed, stages_of
-from caskyears.errors import BadCask, BadStory, BadWeather
+from caskyears.deeds import behind_deed, check_cask, has_casks, is_deed, stages_of
+from caskyears.errors import BadStory, BadWeather
 from caskyears.fills import amount_of, check_cellar, check_kind, scaled, size_of
-from caskyears.fractions import common, is_integer, is_share, order, reduced, total
+from caskyears.fractions import common, is_share, order, reduced, total
 from caskyears.grids import grid_of
 from caskyears.recipes import table_by_marks
 from caskyears.rules import check_rule
@@ -86,8 +86,7 @@ def check_place(cellar, story, cask):
     """Raise an error for what are no cellar, no story and no cask."""
     check_cellar(cellar)
     check_story(story, len(cellar))
-    if not is_integer(cask) or not 0 <= cask < len(cellar):
-        raise BadCask(built_anew(cask))
+    check_cask(cask, len(cellar))
 
 
 def bounds_of(story):

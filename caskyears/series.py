@@ -161,12 +161,12 @@ def each_over(entries, years):
     return tuple(found)
 
 
-def first_at_most(step, start, bound):
-    """Return the first year, counted from the start, at which at most the bound is left in all casks together."""
+def first_at_most(step, start, bound, earliest):
+    """Return the first year, from the earliest on, at which at most the bound is left in all casks together."""
     kept = kept_for(step, start, list(range(len(step))))
     columns, factor, numbers, below = wound(step, start, kept)
     for year in range(MOST_YEARS + 1):
-        if sum(numbers) * bound[1] <= bound[0] * below:
+        if year >= earliest and sum(numbers) * bound[1] <= bound[0] * below:
             return year
         numbers, below = turned(columns, numbers), below * factor
     raise TooMany(MOST_YEARS)

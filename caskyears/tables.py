@@ -5,7 +5,7 @@ from caskyears.elimination import rank_of, solved
 from caskyears.errors import InvalidNumber, InvalidTable, Unlike
 from caskyears.fills import MOST_CASKS
 from caskyears.fractions import ONE, ZERO, check_fraction, is_fraction, is_from_zero, is_share, products, total
-from caskyears.grids import grid_of, power_of, product_of, rows_of, still_grid
+from caskyears.grids import grid_of, powered, product_of, rows_of, still_grid
 
 
 def is_table(value):
@@ -46,7 +46,7 @@ def power(table, rounds):
     """Return the table of so many times."""
     check_table(table)
     check_rounds(rounds)
-    return rows_of(power_of(grid_of(table), rounds))
+    return powered(grid_of(table), rounds)
 
 
 def keeps_all(table):
