@@ -55,6 +55,23 @@ LISTED = {
     "surely(knowledge,recipe,cask,rule) counter(knowledge,recipe,cask,rule) reason(knowledge,recipe,cask,rule) "
     "reason_holds(knowledge,recipe,cask,rule,value) sure_least(knowledge,recipe,cask,kinds) "
     "sure_most(knowledge,recipe,cask,kinds) needless(knowledge)",
+    "bottlings": "worth(cellar,products,plan) best_plan(cellar,products) best_worth(cellar,products) "
+    "sheets(cellar,products) sheets_show(cellar,products,bound,value)",
+    "traces": "lots(cellar,story) touched(cellar,story,lot) carried(cellar,story,index) road(cellar,story,lot,index) "
+    "road_holds(cellar,story,lot,index,value) suspects(cellar,story,told) looks(cellar,story,told) "
+    "look_tree(cellar,story,told)",
+    "tastes": "answers(glasses,spoilt,faint) finds(number,most,glasses,faint) alike_pair(number,most,glasses,faint) "
+    "fitting(number,most,glasses,faint,told) fewest_glasses(number,most,faint) some_glasses(number,most,faint) "
+    "fewest_in_turn(number,most,faint) turn_tree(number,most,faint)",
+    "unknowns": "shares_of(number,tastes) some_shares(number,tastes) refusal(number,tastes) "
+    "refusal_shows(number,tastes,value) between(number,tastes,cask) open_casks(number,tastes) "
+    "more_needed(number,tastes) next_glasses(number,tastes)",
+    "racks": "takeable(sides) order(sides) stuck(sides,barrel) stuck_holds(sides,barrel,value) "
+    "order_holds(sides,value) least_ahead(sides,barrel) some_ahead(sides,barrel) orders(sides)",
+    "ledger": "bare_lines(count,book) held(count,book) sizes(count,book) totals(book) story_of(count,book) "
+    "book_of(count,story)",
+    "audits": "filled_by(count,torn,amounts) some_filling(count,torn) between(count,torn,hole) settled(count,torn) "
+    "rows_of(count,torn) refusal(count,torn) refusal_shows(count,torn,value) first_wrong(count,torn)",
 }
 
 
