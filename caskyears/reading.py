@@ -4,10 +4,11 @@ from caskyears.anew import built_anew
 from caskyears.deeds import is_deed
 from caskyears.errors import Unreadable
 from caskyears.fills import is_cellar, is_fill
-from caskyears.fractions import is_fraction
+from caskyears.fractions import is_fraction, is_share
 from caskyears.rows import is_row
 from caskyears.tables import is_table
-from caskyears.texts import show_cellar, show_deeds, show_fill, show_fraction, show_row, show_table, show_yearly
+from caskyears.texts import numbers_text, show_cellar, show_deeds, show_fill, show_fraction, show_row, show_table
+from caskyears.texts import show_yearly
 from caskyears.yearly import is_yearly
 
 DIGITS = "0123456789"
@@ -35,8 +36,8 @@ def read_fill(text):
 def read_cellar(text):
     """Return the cellar that has a text."""
     check_text(text)
-    value = tuple([said_fill(part) for part in text.split(" | ")])
-    if not is_cellar(value) or show_cellar(value) != text:
+    value = cellar_in(text)
+    if value is None:
         raise Unreadable(text)
     return value
 
@@ -82,6 +83,30 @@ def check_text(value):
     """Raise an error for any object that is no text."""
     if not isinstance(value, str):
         raise Unreadable(built_anew(value))
+
+
+def cellar_in(text):
+    """Return the cellar that has a text, None if none has it."""
+    value = tuple([said_fill(part) for part in text.split(" | ")])
+    return value if is_cellar(value) and show_cellar(value) == text else None
+
+
+def deed_in(text):
+    """Return the deed that has a text by itself, None if none has it."""
+    value = said_deed(text)
+    return value if is_deed(value) and show_deeds((value,)) == text else None
+
+
+def shares_in(text):
+    """Return the tuple of shares that has a text, with blanks between, None if none has it."""
+    value = said_numbers(text)
+    return value if all([is_share(entry) for entry in value]) and numbers_text(value) == text else None
+
+
+def integer_in(text):
+    """Return the integer that has a text, None if none has it."""
+    value = said_integer(text)
+    return value if value is not None and str(value) == text else None
 
 
 def said_integer(text):

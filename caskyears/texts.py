@@ -9,6 +9,11 @@ from caskyears.rows import check_row
 from caskyears.tables import check_table
 from caskyears.yearly import check_yearly
 
+SHORT_DIGITS = 60
+SHORT = 10**60
+# So many times a short piece is squared to one of 3840 digits.
+SQUARES = 6
+
 
 def show_fraction(fraction):
     """Return the text of a fraction."""
@@ -58,7 +63,35 @@ def show_yearly(yearly):
 def fraction_text(fraction):
     """Return the text of what is known to be a fraction."""
     above, below = fraction
-    return str(above) if below == 1 else f"{above}/{below}"
+    return integer_text(above) if below == 1 else f"{integer_text(above)}/{integer_text(below)}"
+
+
+def integer_text(number):
+    """Return the text of an integer.
+
+    Python refuses to write one of more than some thousand digits, so such a one is parted into pieces first.
+    """
+    if number < 0:
+        return "-" + integer_text(-number)
+    if number < SHORT:
+        return str(number)
+    piece = SHORT
+    for _ in range(SQUARES):
+        piece = piece * piece
+    powers = [piece]
+    while powers[-1] * powers[-1] <= number:
+        powers.append(powers[-1] * powers[-1])
+    return spelled(number, powers)
+
+
+def spelled(number, powers):
+    """Return the text of an integer below the square of the last power; each power is the square of the one ahead."""
+    if not powers:
+        return str(number)
+    high, low = divmod(number, powers[-1])
+    behind = spelled(low, powers[:-1])
+    digits = SHORT_DIGITS << (SQUARES + len(powers) - 1)
+    return spelled(high, powers[:-1]) + behind.zfill(digits) if high else behind
 
 
 def numbers_text(fractions):

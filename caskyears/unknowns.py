@@ -141,10 +141,15 @@ def ends_of(number, tastes):
 def known_rows(number, tastes):
     """Return the list of the parts of all tastes, and of each cask alone of which but one share fits.
 
-    What is left open are just the ways along which all these rows give 0. That no shares fit is an error.
+    That no shares fit is an error.
     """
     ends = ends_of(number, tastes)
     if ends is None:
         raise BadTold(built_anew(tastes))
+    return rows_known(number, tastes, ends)
+
+
+def rows_known(number, tastes, ends):
+    """Return these rows by the least and the greatest shares; what is open are the ways that give 0 in all of them."""
     fixed = [one_part(number, cask) for cask, (least, most) in enumerate(ends) if least == most]
     return [(ZERO,) * number] + [parts for parts, _ in tastes] + fixed

@@ -72,10 +72,39 @@ LISTED = {
     "book_of(count,story)",
     "audits": "filled_by(count,torn,amounts) some_filling(count,torn) between(count,torn,hole) settled(count,torn) "
     "rows_of(count,torn) refusal(count,torn) refusal_shows(count,torn,value) first_wrong(count,torn)",
+    "toldback": "with_share(story,share) shares_that_fit(cellar,story,looks) pair_of_looks(cellar,story,looks) "
+    "telling_glass(cellar,story)",
+    "scripts": "played(fills,script) plain(fills,script) same_end(fills,script,other) steady(script) "
+    "table_of(number,script) turns(fills,script,most) settles(fills,script,cask,rule,most)",
+    "glassback": "mornings(sizes,recipe,glasses) morning(sizes,recipe,glasses) "
+    "morning_between(sizes,recipe,glasses,cask) blind_pair(sizes,recipe) fewest_evening(sizes,recipe)",
+    "blends": "blended(cellar,blend) blend_for(cellar,fill) no_blend(cellar,fill) no_blend_holds(cellar,fill,value) "
+    "most_of(cellar,shares) fewest_casks(cellar,fill) unneeded(cellar)",
+    "cellarbooks": "show_book(fills,story) read_book(text)",
+}
+
+# The classes that the document lists, with what each one is constructed with, its methods and its properties.
+CLASSES = {
+    "livecellar": ("Cellar", "fills",
+    "do(deed) do_all(deeds) year(yearly,kind) season(kept) undo() begin() keep() drop() "
+        "twin() glass(cask)", "fills casks depth story left born"),
+    "desk": ("Desk", "", "execute(line)", ""),
 }
 
 
 class Interface(unittest.TestCase):
+    def test_classes(self):
+        for file, (name, passed, listed, properties) in CLASSES.items():
+            kind = getattr(importlib.import_module("caskyears." + file), name)
+            self.assertEqual([kind.__module__, kind.__bases__], ["caskyears." + file, (object,)])
+            self.assertEqual(",".join(list(inspect.signature(kind).parameters)), passed)
+            for entry in listed.split():
+                with self.subTest(file=file, entry=entry):
+                    method, arguments = entry.rstrip(")").split("(")
+                    self.assertEqual(",".join(list(inspect.signature(vars(kind)[method]).parameters)[1:]), arguments)
+            for entry in properties.split():
+                self.assertIsInstance(vars(kind)[entry], property)
+
     def test_names_and_arguments(self):
         for file, listed in LISTED.items():
             module = importlib.import_module("caskyears." + file)
