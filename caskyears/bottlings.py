@@ -117,7 +117,7 @@ def best_of(cellar, products):
 def rows_for(cellar, products, pairs):
     """Return the list of rows: no amount below 0, no cask with too little, no product with too much, all rules kept."""
     places = range(len(pairs))
-    rows = [(tuple([negative(ONE) if at == place else ZERO for at in places]), ZERO) for place in places]
+    rows = [(tuple([negative(ONE) if other == place else ZERO for other in places]), ZERO) for place in places]
     for cask, fill in enumerate(cellar):
         rows.append((tuple([ONE if pair[0] == cask else ZERO for pair in pairs]), size_of(fill)))
     for at, (_, _, most) in enumerate(products):

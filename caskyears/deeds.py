@@ -29,6 +29,11 @@ def is_cask_of(value, casks):
     return is_cask(value) and value < casks
 
 
+def is_place(value, casks):
+    """Return whether any object is the number of one of so many casks, or of any number if this is None."""
+    return is_cask(value) if casks is None else is_cask_of(value, casks)
+
+
 def check_cask(value, casks):
     """Raise an error for what is not the number of one of so many casks."""
     if not is_cask_of(value, casks):

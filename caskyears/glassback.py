@@ -6,9 +6,8 @@ from caskyears.elimination import rank_of, solved
 from caskyears.errors import BadSizes, BadTold, InvalidRecipe
 from caskyears.fills import MOST_CASKS
 from caskyears.fractions import ZERO, divided, is_from_zero, is_share, multiplied, negative, order
-from caskyears.inequalities import nothing, outcome
 from caskyears.recipes import is_for, is_some_recipe, table_by_marks
-from caskyears.unknowns import ends_at, ends_of, rows_known, system_of
+from caskyears.unknowns import ends_for, ends_of, point_for, rows_known
 
 
 def mornings(sizes, recipe, glasses):
@@ -25,9 +24,8 @@ def mornings(sizes, recipe, glasses):
 def morning(sizes, recipe, glasses):
     """Return shares of the morning that fit the glasses, None if there are none."""
     tastes = tastes_of(sizes, recipe, glasses)
-    system = system_of(len(full_casks(sizes)), tastes)
-    found = outcome(system, nothing(system))
-    return None if found[0] == "none" else in_all_casks(sizes, found[2])
+    found = point_for(len(full_casks(sizes)), tastes)
+    return None if found is None else in_all_casks(sizes, found)
 
 
 def morning_between(sizes, recipe, glasses, cask):
@@ -35,10 +33,9 @@ def morning_between(sizes, recipe, glasses, cask):
     tastes = tastes_of(sizes, recipe, glasses)
     check_cask(cask, len(sizes))
     full = full_casks(sizes)
-    system = system_of(len(full), tastes)
     if cask in full:
-        return ends_at(system, full.index(cask))
-    return None if outcome(system, nothing(system))[0] == "none" else (ZERO, ZERO)
+        return ends_for(len(full), tastes, full.index(cask))
+    return None if point_for(len(full), tastes) is None else (ZERO, ZERO)
 
 
 def blind_pair(sizes, recipe):

@@ -1,7 +1,7 @@
 """Books of what came in, was moved, went out and was lost, line by line."""
 
 from caskyears.anew import built_anew
-from caskyears.deeds import behind_deed, has_casks, is_cask, is_deed, stages_of
+from caskyears.deeds import behind_deed, has_casks, is_deed, is_place, stages_of
 from caskyears.errors import BadBook, BadStory
 from caskyears.fills import is_kind, size_of
 from caskyears.fractions import ONE, ZERO, divided, is_above_zero, lessened, multiplied, order, total
@@ -54,11 +54,6 @@ def book_of(count, story):
     for entry, now in zip(story, stages_of(empty_casks(count), story)):
         lines.extend(lines_for(entry, now))
     return tuple(lines)
-
-
-def is_place(value, casks):
-    """Return whether any object is the number of one of so many casks, or of any number if this is None."""
-    return is_cask(value) and (casks is None or value < casks)
 
 
 def is_open_line(value, casks):

@@ -1,7 +1,7 @@
 """Scripts: deeds, years and seasons that are done several times, or if a rule fits."""
 
 from caskyears.anew import built_anew
-from caskyears.deeds import check_cask, has_casks, is_cask_of, is_deed
+from caskyears.deeds import check_cask, has_casks, is_deed, is_place
 from caskyears.errors import BadStory, InvalidNumber, TooMany
 from caskyears.fills import MOST_CASKS, amount_of, check_cellar, is_kind
 from caskyears.fractions import ONE, is_integer
@@ -122,11 +122,6 @@ def is_entry(value, casks):
 def is_script(value, casks):
     """Return whether any object is a script for so many casks, or for any number if this is None."""
     return isinstance(value, tuple) and all([is_entry(entry, casks) for entry in value])
-
-
-def is_place(value, casks):
-    """Return whether any object is the number of one of so many casks, or of any number if this is None."""
-    return is_integer(value) and value >= 0 if casks is None else is_cask_of(value, casks)
 
 
 def is_times(value):

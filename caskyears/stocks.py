@@ -24,8 +24,12 @@ def stock_of(fills):
     for fill in fills:
         for kind, much in fill:
             scales[kind] = lcm(scales.get(kind, 1), much[1])
-    places = [({kind: much[0] * (scales[kind] // much[1]) for kind, much in fill}, 1) for fill in fills]
-    return tuple(places), 1, 1, FIRST_LIMIT, scales
+    return tuple([(integers_of(part, scales), 1) for part in fills]), 1, 1, FIRST_LIMIT, scales
+
+
+def integers_of(fill, scales):
+    """Return the dict of the integers of a fill above the scales of its kinds."""
+    return {kind: much[0] * (scales[kind] // much[1]) for kind, much in fill}
 
 
 def live_stock(fills):
@@ -166,12 +170,25 @@ def trimmed(stock):
         return stock
     wholes, shared = [amounts_above(place, below) for place in places], below
     for amounts in wholes:
-        for number in amounts.values():
-            shared = gcd(number, shared) if shared > 1 else 1
+        shared = shared_with(amounts, shared)
     if shared > 1:
         below = below // shared
-        places = tuple([({kind: number // shared for kind, number in amounts.items()}, below) for amounts in wholes])
+        places = tuple([(divided_by(amounts, shared), below) for amounts in wholes])
     return places, below, base, max(FIRST_LIMIT, 2 * below.bit_length()), scales
+
+
+def shared_with(amounts, number):
+    """Return the greatest common divisor of a number and all integers of a dict."""
+    shared = number
+    for entry in amounts.values():
+        # Mostly nothing is shared, and then no further integer has to be looked at.
+        shared = gcd(entry, shared) if shared > 1 else 1
+    return shared
+
+
+def divided_by(amounts, shared):
+    """Return the dict of integers, each divided by a number that divides it."""
+    return {kind: number // shared for kind, number in amounts.items()}
 
 
 def behind_entry(stock, entry):

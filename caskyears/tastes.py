@@ -3,7 +3,7 @@
 from itertools import combinations
 
 from caskyears.anew import built_anew
-from caskyears.deeds import is_cask, is_cask_of
+from caskyears.deeds import is_place
 from caskyears.errors import BadGlasses, BadTold, InvalidNumber
 from caskyears.tables import check_casks
 
@@ -64,9 +64,7 @@ def turn_tree(number, most, faint):
 
 def is_set(value, number):
     """Return whether any object is an ascending tuple of casks, of so many or of any number if this is None."""
-    if not isinstance(value, tuple):
-        return False
-    if not all([is_cask(entry) if number is None else is_cask_of(entry, number) for entry in value]):
+    if not isinstance(value, tuple) or not all([is_place(entry, number) for entry in value]):
         return False
     return all([value[at] < value[at + 1] for at in range(len(value) - 1)])
 

@@ -2,7 +2,7 @@
 
 from caskyears.anew import built_anew
 from caskyears.deeds import check_cask
-from caskyears.elimination import rank_of
+from caskyears.elimination import rank_of, solved
 from caskyears.errors import BadTold
 from caskyears.fractions import ONE, ZERO, added, is_fraction, is_from_zero, is_share, lessened, multiplied, negative
 from caskyears.fractions import products, total
@@ -22,19 +22,24 @@ def shares_of(number, tastes):
 def some_shares(number, tastes):
     """Return shares that fit, None if none do."""
     check_tastes(number, tastes)
-    found = outcome(system_of(number, tastes), (ZERO,) * number)
-    return None if found[0] == "none" else tuple(found[2])
+    return point_for(number, tastes)
 
 
 def refusal(number, tastes):
     """Return a tuple (of tastes, of lows, of highs) that shows that no shares fit, None if some do."""
     check_tastes(number, tastes)
-    found = outcome(system_of(number, tastes), (ZERO,) * number)
+    start, ways = solutions_of(number, tastes)
+    if start is None:
+        return tuple(ways), (ZERO,) * number, (ZERO,) * number
+    system = system_of(start, ways)
+    found = outcome(system, nothing(system))
     if found[0] != "none":
         return None
-    low, high, told = found[1][:number], found[1][number : 2 * number], found[1][2 * number :]
-    signed = [lessened(told[2 * at], told[2 * at + 1]) for at in range(len(tastes))]
-    return tuple(signed), tuple(low), tuple(high)
+    low, high = found[1][:number], found[1][number:]
+    # Along the ways the lows and the highs come to 0, so the tastes make what is left of them.
+    rows = [[parts[cask] for parts, _ in tastes] + [ZERO] for cask in range(number)]
+    told = solved(rows, [lessened(less, more) for less, more in zip(low, high)])[1]
+    return tuple(told[:-1]), tuple(low), tuple(high)
 
 
 def refusal_shows(number, tastes, value):
@@ -58,7 +63,7 @@ def between(number, tastes, cask):
     """Return the tuple of the least and the greatest share of a cask over all that fit, None if none do."""
     check_tastes(number, tastes)
     check_cask(cask, number)
-    return ends_at(system_of(number, tastes), cask)
+    return ends_for(number, tastes, cask)
 
 
 def open_casks(number, tastes):
@@ -112,30 +117,65 @@ def amount_told(taste):
     return multiplied(share, total(parts))
 
 
-def system_of(number, tastes):
-    """Return the system of all shares that fit: from 0, to 1, and twice each taste, as at most and as at least."""
-    rows = [(tuple([negative(entry) for entry in one_part(number, cask)]), ZERO) for cask in range(number)]
-    rows.extend([(one_part(number, cask), ONE) for cask in range(number)])
-    for taste in tastes:
-        rows.append((taste[0], amount_told(taste)))
-        rows.append((tuple([negative(entry) for entry in taste[0]]), negative(amount_told(taste))))
-    return number, tuple(rows)
+def solutions_of(number, tastes):
+    """Return one list of shares of any size that solves the equations of tastes, and the list of ways to all others.
+
+    If there is none, None comes first, and then a factor for each taste that shows it.
+    """
+    amounts = [amount_told(taste) for taste in tastes]
+    rows = [list(parts) for parts, _ in tastes]
+    found = solved(rows + [[ZERO] * number], amounts + [ZERO])
+    if found[0] != "none":
+        return found[1], found[2] if found[0] == "many" else []
+    factors = found[1][:-1]
+    return None, [negative(entry) for entry in factors] if products(factors, amounts)[0] > 0 else factors
 
 
-def ends_at(system, cask):
+def system_of(start, ways):
+    """Return the system whose unknowns tell how far to go along each way from a start; all shares are from 0 to 1."""
+    rows = []
+    for cask, share in enumerate(start):
+        rows.append((tuple([negative(way[cask]) for way in ways]), share))
+    for cask, share in enumerate(start):
+        rows.append((tuple([way[cask] for way in ways]), lessened(ONE, share)))
+    return len(ways), tuple(rows)
+
+
+def point_for(number, tastes):
+    """Return the tuple of some shares that fit, None if none do."""
+    start, ways = solutions_of(number, tastes)
+    if start is None:
+        return None
+    system = system_of(start, ways)
+    found = outcome(system, nothing(system))
+    if found[0] == "none":
+        return None
+    steps = [products(found[2], [way[cask] for way in ways]) for cask in range(number)]
+    return tuple([added(share, step) for share, step in zip(start, steps)])
+
+
+def ends_for(number, tastes, cask):
     """Return the tuple of the least and the greatest share of a cask, None if no shares fit."""
-    low = outcome(system, tuple([negative(entry) for entry in one_part(system[0], cask)]))
+    start, ways = solutions_of(number, tastes)
+    return None if start is None else ends_at(start, ways, cask)
+
+
+def ends_at(start, ways, cask):
+    """Return the tuple of the least and the greatest share of a cask along ways from a start, None if none fit."""
+    system = system_of(start, ways)
+    aim = tuple([way[cask] for way in ways])
+    low = outcome(system, tuple([negative(entry) for entry in aim]))
     if low[0] == "none":
         return None
-    return negative(low[1]), outcome(system, one_part(system[0], cask))[1]
+    return lessened(start[cask], low[1]), added(start[cask], outcome(system, aim)[1])
 
 
 def ends_of(number, tastes):
     """Return the list of the least and greatest shares of all casks, None if no shares fit."""
-    system = system_of(number, tastes)
-    if outcome(system, nothing(system))[0] == "none":
+    start, ways = solutions_of(number, tastes)
+    if start is None or outcome(system_of(start, ways), (ZERO,) * len(ways))[0] == "none":
         return None
-    return [ends_at(system, cask) for cask in range(number)]
+    return [ends_at(start, ways, cask) for cask in range(number)]
 
 
 def known_rows(number, tastes):
