@@ -29,11 +29,11 @@ def read_book(text):
         raise BadText(0)
     lines = text.split("\n")
     fills, story = cellar_in(lines[0]), []
-    if fills is None or len(lines) == 1:
+    if fills is None:
         raise BadText(0)
     for at, line in enumerate(lines[1:-1]):
         entry = entry_in(line)
-        if entry is None or not is_entry_for(entry, len(fills)):
+        if not is_entry_for(entry, len(fills)):
             raise BadText(at + 1)
         story.append(entry)
     if lines[-1]:

@@ -59,7 +59,7 @@ def fewest_evening(sizes, recipe):
     check_recipe_for(sizes, recipe)
     full = len(full_casks(sizes))
     # So many casks as there are unknowns are needed, and so many do if their rows are free of one another.
-    return full if full == 0 or rank_of(evening_rows(sizes, recipe)) == full else None
+    return full if rank_of(evening_rows(sizes, recipe)) == full else None
 
 
 def check_recipe_for(sizes, recipe):

@@ -174,6 +174,7 @@ class Audits(Case, unittest.TestCase):
             self.assertIsNone(some_filling(1, wrong))
             self.assertEqual([first_wrong(1, wrong), settled(1, wrong), filled_by(1, wrong, ())], [least, [], False])
             self.assertIs(refusal_shows(value=refusal(torn=wrong, count=1), torn=wrong, count=1), True)
+        self.assertEqual(first_wrong(1, (("out", 0, HALF), ("in", 0, "a", HALF))), 1)
         # A hole may be 0: then its line does nothing.
         zero = (("in", 0, "red", None), ("move", 0, 1, None), ("seen", 0, (0, 1)), ("seen", 1, (0, 1)))
         self.assertEqual([some_filling(2, zero), settled(2, zero)], [pairs(0, 0), [0, 1]])

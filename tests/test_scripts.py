@@ -125,6 +125,8 @@ class Scripts(Case, unittest.TestCase):
             self.assertEqual(worked(table, fills), played(fills, script).fills)
             self.assertEqual(table, table_of_recipe(plain(fills, script), casks))
         self.assertEqual(table_of(script=(), number=2), (pairs(1, 0), pairs(0, 1)))
+        back = (("move", 0, 1, (1, 3)), ("move", 1, 0, (1, 1)))
+        self.assertEqual(table_of(2, (("times", 2, back),)), (pairs(1, 1), pairs(0, 0)))
         self.assertEqual(table_of(1, (("times", 200, (("draw", 0, HALF),)),)), (((1, 2**200),),))
         self.assertEqual(table_of(1, (("times", 0, (("draw", 0, HALF),)), ("keep", 0, (1, 3)))), (((1, 3),),))
 
@@ -141,6 +143,10 @@ class Scripts(Case, unittest.TestCase):
         for entry in (("add", 0, ()), ("season", KEPT), ("year", YEARLY, "a"), ("if", 10**50, RULE, (), ())):
             self.assertIs(steady((MOVE, entry)), False)
             self.assertIs(steady((("times", 0, (("times", 0, (entry,)),)),)), False)
+        for many in (1, 8):
+            self.assertIs(steady((("season", KEPT[:1] * many),)), False)
+        for kept in (KEPT[:1] * 9, (None,), ((3, 2),), list(KEPT)):
+            self.refused(BadStory, 1, steady, (MOVE, ("season", kept)))
         # What does nothing may be done very many times.
         nothing = ()
         for _ in range(4):

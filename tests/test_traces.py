@@ -176,6 +176,9 @@ class Traces(Case, unittest.TestCase):
         for value, wanted in (([2], True), ([0, 1, 2], True), ([0, 2], False), ([1, 2], False), ([0, 1], False),
             ([], False)):
             self.assertIs(road_holds(CELLAR, round_about, -1, 2, value), wanted, value)
+        detour = (("move", 0, 1, HALF), ("move", 0, 2, ALL), ("move", 2, 1, HALF), ("draw", 1, HALF))
+        self.assertEqual(road(CELLAR, detour, -1, 3), [0, 3])
+        self.assertIs(road_holds(CELLAR, detour, -1, 3, [1, 2, 3]), True)
         emptied = (("move", 0, 1, HALF), ("draw", 0, ALL), ("swap", 1, 0, HALF), ("draw", 0, HALF))
         self.assertEqual(road(CELLAR, emptied, -1, 3), [0, 2, 3])
         self.assertIs(road_holds(CELLAR, emptied, -1, 3, [3]), False)

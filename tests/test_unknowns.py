@@ -162,7 +162,8 @@ class Unknowns(Case, unittest.TestCase):
         told, low, high = refusal(2, none)
         for value in NONE_OF_ANY + [(), (told, low), (told, low, high, ()), [told, low, high], (list(told), low, high),
             (told, list(low), high),
-                (told, low, list(high)), (told[:1], low, high), (told, low[:1], high), (told, low, high + ((0, 1),)),
+                (told, low, list(high)), (told[:1], low, high), (told + ((0, 1),), low, high),
+                (told, low[:1], high), (told, low, high + ((0, 1),)),
                 (None, low, high),
                 (told, None, high), (told, low, None), (told, (ECHO, ECHO), high), ((ODD, ODD), low, high),
                 (told, low, (None, (0, 1))),
