@@ -193,6 +193,7 @@ class Blends(Case, unittest.TestCase):
                 (prices, ((0, 1), (2, 2), (0, 1))),
                 (prices, (None,) * 3), (prices, (ECHO,) * 3), ((("red", (0, 1)), (ECHO, (1, 1))), limits),
                 ((("red", (0, 1)), None), limits),
+                ((("blue", (0, 1)), ("white", (1, 1))), limits), ((("red", (0, 1)), ("wine", (1, 1))), limits),
                 ((("red", (0, 1)), ["white", (1, 1)]), limits), ((("red", (0, 1)), ("white", (2, 2))), limits),
                 ((("red", (0, 1)), ("white", (1, 1), 1)), limits), ((("red", (0, 1)), ("white", ECHO)), limits),
                 (prices, pairs(0, 2, 0)),
